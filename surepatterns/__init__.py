@@ -1,0 +1,1 @@
+"""Surepatterns: patterns that every long word meets."""

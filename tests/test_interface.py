@@ -1,0 +1,27 @@
+"""Each name of the interface is defined in the file under which the interface lists it."""
+
+import importlib
+import unittest
+
+INTERFACE = {
+    "errors": [
+        "PatternError", "InvalidPattern", "InvalidWord", "InvalidAssignment", "InvalidNumber", "InvalidLetters",
+        "InvalidChain", "NotSure", "NotFree", "EmptyResult", "TooShort", "TooLong", "TooMany", "TooLarge",
+        "NotACertificate", "InvalidName", "NameTaken", "UnknownName", "Full", "InvalidMark",
+    ],
+    "patterns": ["is_pattern", "is_word", "letters_of", "normal_form", "value_of"],
+    "occurrences": ["occurrences_at", "first_occurrence", "meets", "count_occurrences"],
+    "joins": ["joined", "is_free", "free_sets"],
+    "chains": ["delete", "is_chain", "shortest_chain", "index_of", "is_sure"],
+    "standard": ["standard_word", "letter_at", "find_in_standard"],
+    "embedding": ["occurrence_by_chain", "occurrence_in_standard"],
+}
+
+
+class Interface(unittest.TestCase):
+    def test_names_stand_in_their_files(self):
+        for file, names in INTERFACE.items():
+            module = importlib.import_module(f"surepatterns.{file}")
+            for name in names:
+                with self.subTest(file=file, name=name):
+                    self.assertEqual(getattr(module, name).__module__, module.__name__)
