@@ -21,6 +21,10 @@ class Laying:
         """For each end of an occurrence that begins at an index, how many there are: a dict."""
         return dict(self._ends((0, start, ())))
 
+    def fits(self, start):
+        """Tell whether an occurrence begins at an index."""
+        return self._ends((0, start, ())) != {}
+
     def least(self, start, end):
         """The least assignment of the occurrences that begin and end at these indexes."""
         state = (0, start, ())

@@ -1,8 +1,10 @@
 """What several tests need: values of every kind, samples by a fixed chance, and slow, plain searches."""
 
+import random
+import re
 import time
 from contextlib import contextmanager
-from itertools import combinations
+from itertools import combinations, product
 
 CAPITALS = "ABCDEFGHIJKLMNOPQRSTUVWXYZ"
 SMALL = "abcdefghijklmnopqrstuvwxyz"
@@ -116,6 +118,19 @@ def slow_meets(pattern, word):
     return any([slow_occurrences(pattern, word, start) for start in range(len(word))])
 
 
+def regex_meets(pattern, word):
+    """Tells the same by a regular expression, which also tries every word for every letter, but faster."""
+    letters = first_letters(pattern)
+    parts = []
+    for at, letter in enumerate(pattern):
+        parts.append(f"\\{letters.index(letter) + 1}" if letter in pattern[:at] else "(.+)")
+    return re.search("".join(parts), word) is not None
+
+
+def all_words(letters, length):
+    return ["".join(row) for row in product(SMALL[:letters], repeat=length)]
+
+
 def slow_components(pattern):
     """The components, by spreading from each end and each beginning along the joins."""
     joins = {}
@@ -157,6 +172,20 @@ def slow_free_sets(pattern):
 
 def without(pattern, letters):
     return "".join([letter for letter in pattern if letter not in letters])
+
+
+def kept(pattern, letters):
+    return "".join([letter for letter in pattern if letter in letters])
+
+
+def slow_reachable_sets(pattern):
+    """All reachable sets, perhaps with the empty one, by going on from the set of all letters."""
+    reached = ["".join(sorted(set(pattern)))]
+    for some in reached:
+        for free in slow_free_sets(kept(pattern, some)):
+            if without(some, free) not in reached:
+                reached.append(without(some, free))
+    return sorted(reached, key=lambda some: (len(some), some))
 
 
 def slow_shortest_chain(pattern):
@@ -205,6 +234,13 @@ def grown_pattern(chance, longest):
             pattern = grown
             unused = [letter for letter in unused if letter not in some]
     return pattern
+
+
+def samples(seed, many):
+    """Patterns by chance, seldom sure when they are long, and as many sure ones."""
+    chance = random.Random(seed)
+    rows = [random_pattern(chance, chance.randint(1, 20), chance.randint(1, 7)) for _ in range(many)]
+    return rows + [grown_pattern(chance, 20) for _ in range(many)]
 
 
 def slow_standard_word(number):

@@ -6,15 +6,8 @@ from surepatterns.chains import delete, index_of, is_chain, is_sure, shortest_ch
 from surepatterns.errors import InvalidLetters, InvalidPattern
 from tests.helper import (
     CAPITALS, NO_PATTERNS, NO_STRINGS, grown_pattern, letter_sets, normal_patterns, random_chain, random_pattern,
-    renamed, slow_free_sets, slow_shortest_chain, slow_standard_word, within_seconds, without,
+    renamed, samples, slow_free_sets, slow_shortest_chain, slow_standard_word, within_seconds, without,
 )
-
-
-def samples(seed, many):
-    """Patterns by chance, seldom sure when they are long, and as many sure ones."""
-    chance = random.Random(seed)
-    rows = [random_pattern(chance, chance.randint(1, 20), chance.randint(1, 7)) for _ in range(many)]
-    return rows + [grown_pattern(chance, 20) for _ in range(many)]
 
 
 def standard_patterns():

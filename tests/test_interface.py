@@ -15,6 +15,10 @@ INTERFACE = {
     "chains": ["delete", "is_chain", "shortest_chain", "index_of", "is_sure"],
     "standard": ["standard_word", "letter_at", "find_in_standard"],
     "embedding": ["occurrence_by_chain", "occurrence_in_standard"],
+    "closed": ["reachable_sets", "closed_family", "is_closed_family"],
+    "lengths": ["sure_length", "sure_occurrence"],
+    "avoiding": ["avoiding_words", "count_avoiding", "least_avoiding"],
+    "order": ["contains", "sure_patterns", "standard_pattern"],
 }
 
 

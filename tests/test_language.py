@@ -11,7 +11,8 @@ FILES = sorted(PACKAGE.glob("*.py"))
 
 STATEMENTS = (
     ast.Module, ast.FunctionDef, ast.ClassDef, ast.Return, ast.Assign, ast.AugAssign, ast.For, ast.While, ast.If,
-    ast.Raise, ast.ImportFrom, ast.Expr, ast.Break, ast.Continue, ast.Pass, ast.arguments, ast.arg, ast.alias,
+    ast.Raise, ast.Try, ast.ExceptHandler, ast.ImportFrom, ast.Expr, ast.Break, ast.Continue, ast.Pass, ast.arguments,
+    ast.arg, ast.alias,
 )
 EXPRESSIONS = (
     ast.BoolOp, ast.BinOp, ast.UnaryOp, ast.IfExp, ast.Dict, ast.List, ast.Tuple, ast.ListComp, ast.DictComp,
@@ -99,6 +100,12 @@ class Language(unittest.TestCase):
         for path, node in nodes(ast.Call):
             if isinstance(node.func, ast.Attribute):
                 self.assertIn(node.func.attr, METHODS + own, path)
+
+    def test_only_own_errors_are_caught(self):
+        own = [node.name for path, node in nodes(ast.ClassDef) if path.stem == "errors"]
+        for path, node in nodes(ast.ExceptHandler):
+            self.assertIsInstance(node.type, ast.Name, path)
+            self.assertIn(node.type.id, own, path)
 
     def test_exponents_are_literals(self):
         for path, node in nodes(ast.BinOp):
