@@ -3,9 +3,14 @@
 from surepatterns.errors import InvalidNumber
 
 
+def is_integer(value):
+    """Tell whether any value is an integer."""
+    return isinstance(value, int) and not isinstance(value, bool)
+
+
 def is_integer_from(value, low, high):
     """Tell whether any value is an integer from low to high, both included."""
-    return isinstance(value, int) and not isinstance(value, bool) and low <= value <= high
+    return is_integer(value) and low <= value <= high
 
 
 def need_integer(value, low, high):

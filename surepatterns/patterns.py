@@ -56,10 +56,16 @@ def is_assignment(pattern, value):
 
 def value_of(pattern, assignment):
     """The value of a pattern under an assignment, a word."""
-    letters = letters_of(pattern)
+    need_pattern(pattern)
     if not is_assignment(pattern, assignment):
         raise InvalidAssignment("an assignment has one nonempty word for each different letter")
-    value = "".join([assignment[letters.index(letter)] for letter in pattern])
+    value = put_together(pattern, assignment)
     if len(value) > LONGEST_WORD:
         raise TooLong("the value has more than 200 letters")
     return value
+
+
+def put_together(pattern, assignment):
+    """The value, of any length, where the pattern and the assignment are known to be right."""
+    letters = distinct(pattern)
+    return "".join([assignment[letters.index(letter)] for letter in pattern])

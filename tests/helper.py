@@ -4,6 +4,7 @@ import random
 import re
 import time
 from contextlib import contextmanager
+from functools import lru_cache
 from itertools import combinations, product
 
 CAPITALS = "ABCDEFGHIJKLMNOPQRSTUVWXYZ"
@@ -165,9 +166,14 @@ def slow_is_free(components, some):
     return True
 
 
-def slow_free_sets(pattern):
+@lru_cache(None)
+def kept_free_sets(pattern):
     components = slow_components(pattern)
-    return [some for some in letter_sets(pattern) if slow_is_free(components, some)]
+    return tuple([some for some in letter_sets(pattern) if slow_is_free(components, some)])
+
+
+def slow_free_sets(pattern):
+    return list(kept_free_sets(pattern))
 
 
 def without(pattern, letters):
@@ -186,6 +192,28 @@ def slow_reachable_sets(pattern):
             if without(some, free) not in reached:
                 reached.append(without(some, free))
     return sorted(reached, key=lambda some: (len(some), some))
+
+
+def slow_is_chain(pattern, value):
+    """Tells whether a list of strings is a chain, by the words of point 9."""
+    for letters in value:
+        if letters not in slow_free_sets(pattern):
+            return False
+        pattern = without(pattern, letters)
+    return pattern == ""
+
+
+def slow_is_family(pattern, family):
+    """Tells whether a list of strings is a closed family, by the words of point 12."""
+    if len(set(family)) != len(family) or "".join(sorted(set(pattern))) not in family:
+        return False
+    for some in family:
+        if some not in letter_sets(pattern):
+            return False
+        for free in slow_free_sets(kept(pattern, some)):
+            if without(some, free) == "" or without(some, free) not in family:
+                return False
+    return True
 
 
 def slow_shortest_chain(pattern):

@@ -6,7 +6,7 @@ from surepatterns.chains import delete, index_of, is_chain, is_sure, shortest_ch
 from surepatterns.errors import InvalidLetters, InvalidPattern
 from tests.helper import (
     CAPITALS, NO_PATTERNS, NO_STRINGS, grown_pattern, letter_sets, normal_patterns, random_chain, random_pattern,
-    renamed, samples, slow_free_sets, slow_shortest_chain, slow_standard_word, within_seconds, without,
+    renamed, samples, slow_is_chain, slow_shortest_chain, slow_standard_word, within_seconds, without,
 )
 
 
@@ -90,14 +90,6 @@ class IsChain(unittest.TestCase):
             with self.subTest(value=value):
                 self.assertRaises(InvalidPattern, is_chain, value, ["A"])
                 self.assertRaises(InvalidPattern, is_chain, value, None)
-
-
-def slow_is_chain(pattern, value):
-    for letters in value:
-        if letters not in slow_free_sets(pattern):
-            return False
-        pattern = without(pattern, letters)
-    return pattern == ""
 
 
 class Shortest(unittest.TestCase):

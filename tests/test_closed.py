@@ -9,21 +9,8 @@ from surepatterns.closed import closed_family, is_closed_family, reachable_sets
 from surepatterns.errors import InvalidPattern
 from tests.helper import (
     NESTED_LIST, NO_PATTERNS, NO_STRINGS, first_letters, kept, letter_sets, normal_patterns, random_chain,
-    random_pattern, renamed, samples, slow_free_sets, slow_reachable_sets, slow_shortest_chain, within_seconds, without,
+    random_pattern, renamed, samples, slow_is_family, slow_reachable_sets, slow_shortest_chain, within_seconds, without,
 )
-
-
-def slow_is_family(pattern, family):
-    """Tells whether a list of strings is a closed family, by the words of point 12."""
-    if len(set(family)) != len(family) or "".join(sorted(set(pattern))) not in family:
-        return False
-    for some in family:
-        if some not in letter_sets(pattern):
-            return False
-        for free in slow_free_sets(kept(pattern, some)):
-            if without(some, free) == "" or without(some, free) not in family:
-                return False
-    return True
 
 
 def larger_family(pattern, chance):

@@ -19,6 +19,15 @@ INTERFACE = {
     "lengths": ["sure_length", "sure_occurrence"],
     "avoiding": ["avoiding_words", "count_avoiding", "least_avoiding"],
     "order": ["contains", "sure_patterns", "standard_pattern"],
+    "workspace": ["Workspace"],
+    "checker": ["check"],
+    "wrongs": ["InvalidRule", "InvalidShape", "InvalidWay", "NoDelay", "NotARecord"],
+    "rules": ["is_rule", "image_of", "rule_start", "rule_letter"],
+}
+METHODS = {
+    ("workspace", "Workspace"): [
+        "put", "step", "remove", "mark", "back", "names", "marks", "pattern", "sure_names", "containing",
+    ],
 }
 
 
@@ -29,3 +38,10 @@ class Interface(unittest.TestCase):
             for name in names:
                 with self.subTest(file=file, name=name):
                     self.assertEqual(getattr(module, name).__module__, module.__name__)
+
+    def test_methods_stand_in_their_classes(self):
+        for (file, name), methods in METHODS.items():
+            body = vars(getattr(importlib.import_module(f"surepatterns.{file}"), name))
+            for method in methods:
+                with self.subTest(name=name, method=method):
+                    self.assertIn(method, body)

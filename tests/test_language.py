@@ -11,8 +11,8 @@ FILES = sorted(PACKAGE.glob("*.py"))
 
 STATEMENTS = (
     ast.Module, ast.FunctionDef, ast.ClassDef, ast.Return, ast.Assign, ast.AugAssign, ast.For, ast.While, ast.If,
-    ast.Raise, ast.Try, ast.ExceptHandler, ast.ImportFrom, ast.Expr, ast.Break, ast.Continue, ast.Pass, ast.arguments,
-    ast.arg, ast.alias,
+    ast.Raise, ast.Try, ast.ExceptHandler, ast.Delete, ast.ImportFrom, ast.Expr, ast.Break, ast.Continue, ast.Pass,
+    ast.arguments, ast.arg, ast.alias,
 )
 EXPRESSIONS = (
     ast.BoolOp, ast.BinOp, ast.UnaryOp, ast.IfExp, ast.Dict, ast.List, ast.Tuple, ast.ListComp, ast.DictComp,
