@@ -1,105 +1,124 @@
 """The search that lays a pattern along a word."""
 
 from surepatterns.alphabet import distinct
+from surepatterns.errors import TooMany
 
 
 class Laying:
     """All ways to lay a pattern along a word, from the left to the right.
 
-    A state (at, place, held) tells that the letter of the pattern at index `at` comes next, at index
-    `place` of the word, and that the letters that have come so far hold the words of the tuple `held`.
+    A state (at, place, held, spare) tells that the letter of the pattern at index `at` comes next, at index
+    `place` of the word, that the letters that have come so far hold the words of the tuple `held`, and how
+    many letters of the word are left over if each letter that is still new holds only one. A word that does
+    not come again is forgotten in `held`, so that more ways lead to the same state. What is found for a state
+    is kept, since long words have too many ways to try each.
     """
 
     def __init__(self, pattern, word):
         letters = distinct(pattern)
         self.word = word
         self.row = [letters.index(letter) for letter in pattern]
-        self.last = [pattern.rfind(letter) for letter in letters]
-        self.known = {}
-
-    def ends(self, start):
-        """For each end of an occurrence that begins at an index, how many there are: a dict."""
-        return dict(self._ends((0, start, ())))
+        self.many = [pattern.count(letter) for letter in letters]
+        self.least_ends = {}
+        self.counts = {}
+        self.rests = {}
 
     def fits(self, start):
         """Tell whether an occurrence begins at an index."""
-        return self._ends((0, start, ())) != {}
+        return self._fits(self._first_state(start))
 
-    def least(self, start, end):
-        """The least assignment of the occurrences that begin and end at these indexes."""
-        state = (0, start, ())
+    def least(self, start):
+        """The end and the assignment of the least occurrence that begins at an index, where there is one."""
+        state = self._first_state(start)
+        end = self._least_end(state)
         chosen = ()
         while state[0] < len(self.row):
-            word, after = self._steps_to(state, end)[0]
+            word, after = [step for step in self._steps(state) if self._least_end(step[1]) == end][0]
             if self._is_new(state):
                 chosen = chosen + (word,)
             state = after
-        return chosen
+        return end, chosen
 
-    def assignments(self, start, end):
-        """The ascending list of the assignments of the occurrences that begin and end at these indexes."""
-        return self._assignments((0, start, ()), end)
+    def count(self, start):
+        """The number of the occurrences that begin at an index."""
+        return self._count(self._first_state(start))
 
-    def _assignments(self, state, end):
+    def listed(self, start, most):
+        """The ends and assignments of all occurrences that begin at an index; TooMany if there are more."""
+        return self._rests(self._first_state(start), most)
+
+    def _first_state(self, start):
+        return (0, start, (), len(self.word) - start - len(self.row))
+
+    def _fits(self, state):
         if state[0] == len(self.row):
-            return [()]
-        found = []
-        for word, after in self._steps_to(state, end):
-            rests = self._assignments(after, end)
-            if self._is_new(state):
-                rests = [(word,) + rest for rest in rests]
-            found.extend(rests)
-        return found
+            return True
+        if state in self.least_ends:
+            return self.least_ends[state] is not None
+        for _, after in self._steps(state):
+            if self._fits(after):
+                return True
+        self.least_ends[state] = None
+        return False
 
-    def _ends(self, state):
-        # Many ways lead to one state; its answer is kept, since long words have too many ways to try each.
-        if state not in self.known:
-            self.known[state] = self._count(state)
-        return self.known[state]
+    def _least_end(self, state):
+        """The least end of the ways to go on from a state, or None."""
+        if state[0] == len(self.row):
+            return state[1]
+        if state not in self.least_ends:
+            ends = [self._least_end(after) for _, after in self._steps(state)]
+            self.least_ends[state] = min([end for end in ends if end is not None], default=None)
+        return self.least_ends[state]
 
     def _count(self, state):
-        at, place, _ = state
-        if at == len(self.row):
-            return {place: 1}
-        found = {}
-        for _, after in self._steps(state):
-            onward = self._ends(after)
-            for end in onward:
-                found[end] = found.get(end, 0) + onward[end]
+        if state[0] == len(self.row):
+            return 1
+        if state not in self.counts:
+            self.counts[state] = sum([self._count(after) for _, after in self._steps(state)])
+        return self.counts[state]
+
+    def _rests(self, state, most):
+        if state not in self.rests:
+            self.rests[state] = self._ways(state, most)
+        return self.rests[state]
+
+    def _ways(self, state, most):
+        """All ways to go on from a state: the ends, each with the words of the letters that are new."""
+        steps = self._steps(state)
+        is_new = self._is_new(state)
+        if state[0] == len(self.row) - 1:
+            return [(after[1], (word,) if is_new else ()) for word, after in steps]
+        found = []
+        for word, after in steps:
+            rests = self._rests(after, most)
+            found.extend([(end, (word,) + words) for end, words in rests] if is_new else rests)
+            # Each way to go on belongs to another occurrence, so there is no need to look at the others.
+            if len(found) > most:
+                raise TooMany(f"there are more than {most} occurrences")
         return found
 
-    def _steps_to(self, state, end):
-        return [(word, after) for word, after in self._steps(state) if end in self._ends(after)]
+    def _is_new(self, state):
+        return self.row[state[0]] == len(state[2])
 
     def _steps(self, state):
         """The words that the next letter may hold, the shorter ones first, each with the state after it."""
-        at, place, held = state
+        return self._new_steps(state) if self._is_new(state) else self._old_steps(state)
+
+    def _new_steps(self, state):
+        at, place, held, spare = state
+        many = self.many[len(held)]
         steps = []
-        for word in self._words(state):
-            words = held + (word,) if self._is_new(state) else held
-            steps.append((word, (at + 1, place + len(word), self._needed(words, at + 1))))
+        for size in range(1, 2 + spare // many):
+            word = self.word[place:place + size]
+            kept = word if many > 1 else ""
+            steps.append((word, (at + 1, place + size, held + (kept,), spare - many * (size - 1))))
         return steps
 
-    def _is_new(self, state):
-        at, _, held = state
-        return self.row[at] == len(held)
-
-    def _words(self, state):
-        at, place, held = state
-        if not self._is_new(state):
-            word = held[self.row[at]]
-            return [word] if self.word[place:place + len(word)] == word else []
-        many = self.row[at:].count(self.row[at])
-        spare = len(self.word) - place - self._least_room(at, held)
-        return [self.word[place:place + size] for size in range(1, spare // many + 2)]
-
-    def _least_room(self, at, held):
-        """How many letters the rest of the pattern takes if each new letter holds only one."""
-        room = 0
-        for letter in self.row[at:]:
-            room += len(held[letter]) if letter < len(held) else 1
-        return room
-
-    def _needed(self, words, at):
-        # A word that does not come again is forgotten, so that more ways lead to the same state.
-        return tuple([word if self.last[letter] >= at else "" for letter, word in enumerate(words)])
+    def _old_steps(self, state):
+        at, place, held, spare = state
+        letter = self.row[at]
+        word = held[letter]
+        if not self.word.startswith(word, place):
+            return []
+        after = held[:letter] + ("",) + held[letter + 1:] if letter not in self.row[at + 1:] else held
+        return [(word, (at + 1, place + len(word), after, spare))]

@@ -1,6 +1,6 @@
 """Occurrences of patterns in words (point 6)."""
 
-from surepatterns.errors import TooLong, TooMany
+from surepatterns.errors import TooLong
 from surepatterns.integers import need_integer
 from surepatterns.laying import Laying
 from surepatterns.patterns import need_pattern, need_word
@@ -14,35 +14,33 @@ def occurrences_at(pattern, word, start):
     """The ascending list of all occurrences that begin at an index."""
     laying = _laying(pattern, word, LONGEST)
     need_integer(start, 0, len(word))
-    ends = laying.ends(start)
-    if sum(ends.values()) > MOST_OCCURRENCES:
-        raise TooMany("there are more than 300 occurrences at this index")
-    return [
-        (start, end, assignment)
-        for end in sorted(ends)
-        for assignment in laying.assignments(start, end)
-    ]
+    found = laying.listed(start, MOST_OCCURRENCES)
+    return [(start, end, assignment) for end, assignment in sorted(found)]
 
 
 def first_occurrence(pattern, word):
     """The least occurrence, or None."""
     laying = _laying(pattern, word, LONGEST)
-    for start in range(len(word)):
-        ends = sorted(laying.ends(start))
-        if ends != []:
-            return (start, ends[0], laying.least(start, ends[0]))
+    for start in range(len(word) - len(pattern) + 1):
+        if laying.fits(start):
+            end, assignment = laying.least(start)
+            return (start, end, assignment)
     return None
 
 
 def meets(pattern, word):
     """Tell whether the word meets the pattern."""
-    return first_occurrence(pattern, word) is not None
+    laying = _laying(pattern, word, LONGEST)
+    for start in range(len(word) - len(pattern) + 1):
+        if laying.fits(start):
+            return True
+    return False
 
 
 def count_occurrences(pattern, word):
     """The number of all occurrences."""
     laying = _laying(pattern, word, LONGEST_TO_COUNT)
-    return sum([sum(laying.ends(start).values()) for start in range(len(word))])
+    return sum([laying.count(start) for start in range(len(word) - len(pattern) + 1)])
 
 
 def _laying(pattern, word, longest):

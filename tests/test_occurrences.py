@@ -1,4 +1,5 @@
 import random
+import time
 import unittest
 from math import comb
 
@@ -153,6 +154,46 @@ class Formulas(unittest.TestCase):
                     self.assertLessEqual(count_occurrences(pattern, word[:16]), comb(17, 8))
                     if first is not None:
                         self.assertEqual(put_in(pattern, first[2]), word[first[0]:first[1]])
+
+
+class ManyOccurrences(unittest.TestCase):
+    """Lists of some hundred occurrences."""
+
+    HARDEST = [("ABAC", "aaaaaaaaaaabaaababb", 300), ("AB", "a" * 24, 276), ("ACB", "a" * 13, 286)]
+
+    def test_hardest(self):
+        for pattern, word, many in self.HARDEST:
+            expected = slow_occurrences(pattern, word, 0)
+            self.assertEqual(len(expected), many)
+            self.assertEqual(occurrences_at(pattern, word, 0), expected)
+
+    def test_drawn(self):
+        chance = random.Random(7)
+        sizes = []
+        for _ in range(400):
+            pattern = random_pattern(chance, chance.randint(2, 6), chance.randint(2, 4))
+            word = random_word(chance, chance.randint(12, 24), chance.choice(["a", "aaab", "aaaaaaaaab"]))
+            start = chance.choice([0, 0, 1, chance.randint(0, len(word))])
+            expected = slow_occurrences(pattern, word, start)
+            sizes.append(len(expected))
+            if len(expected) > 300:
+                self.assertRaises(TooMany, occurrences_at, pattern, word, start)
+            else:
+                self.assertEqual(occurrences_at(pattern, word, start), expected, (pattern, word, start))
+        self.assertGreater(len([size for size in sizes if 100 <= size <= 300]), 50)
+        self.assertGreater(len([size for size in sizes if size > 300]), 20)
+
+    def test_time(self):
+        # They need less than a tenth of this; a machine may be busy once, but hardly five times.
+        fastest = min([self.seconds() for _ in range(5)])
+        self.assertLess(fastest, 1)
+
+    def seconds(self):
+        start = time.monotonic()
+        for pattern, word, _ in self.HARDEST:
+            for _ in range(100):
+                occurrences_at(pattern, word, 0)
+        return time.monotonic() - start
 
 
 class Examples(unittest.TestCase):
