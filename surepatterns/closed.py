@@ -45,7 +45,7 @@ def _reachable(pattern):
         level = sorted(set([rest for rest in onward if rest not in found]))
         for letters in level:
             found[letters] = True
-    return sorted([letters for letters in found], key=_size_first)
+    return sorted(found, key=_size_first)
 
 
 def _size_first(letters):
