@@ -1,8 +1,8 @@
 """Sure lengths, and occurrences in every word that is long enough (point 14)."""
 
 from surepatterns.alphabet import SMALL, distinct
-from surepatterns.chains import index_of
-from surepatterns.embedding import occurrence_in_standard
+from surepatterns.chains import shortest_chain
+from surepatterns.embedding import occurrence_by_chain
 from surepatterns.errors import NotSure, TooLarge, TooShort
 from surepatterns.integers import need_integer
 from surepatterns.patterns import need_pattern, need_word
@@ -29,13 +29,14 @@ def sure_occurrence(pattern, word):
     """An occurrence of a sure pattern in a word that is long enough."""
     need_pattern(pattern)
     need_word(word)
-    number = index_of(pattern)
-    if number is None:
+    chain = shortest_chain(pattern)
+    if chain is None:
         raise NotSure("the pattern has no chain")
+    number = len(chain)
     if not _is_long_enough(word, number):
         raise TooShort("the word has fewer letters than the sure length")
     first, words = _standard_occurrence(word, number, len(distinct(word)))
-    start, end, assignment = occurrence_in_standard(pattern)
+    start, end, assignment = occurrence_by_chain(pattern, chain)
     before = _put_in(standard_word(number)[:start], words)
     value = _put_in(standard_word(number)[start:end], words)
     begin = first + len(before)
@@ -43,7 +44,7 @@ def sure_occurrence(pattern, word):
 
 
 def _power(base, exponent):
-    # Since 2 ** 4 is greater than 10, the power has too many digits; it would take too long to work it out.
+    # Since 2 ** 4 is greater than 10, such a power has too many digits; some would take too long to work out.
     if base > 1 and exponent > 4 * MOST_DIGITS:
         raise TooLarge("the result has more than 1000 digits")
     power = 1
@@ -53,10 +54,12 @@ def _power(base, exponent):
 
 
 def _has_too_many_digits(number):
+    digits = 0
     rest = number
-    for _ in range(MOST_DIGITS):
+    while rest > 0:
+        digits += 1
         rest = rest // 10
-    return rest > 0
+    return digits > MOST_DIGITS
 
 
 def _is_long_enough(word, number):

@@ -20,6 +20,9 @@ class Workspace:
         self._patterns = {}
         # The dicts of the patterns at the marks, in the order of their numbers.
         self._marked = []
+        # What was found for patterns is kept; the same ones are asked for again and again.
+        self._indexes = {}
+        self._contained = {}
 
     def put(self, name, pattern):
         """Store a pattern under a new name."""
@@ -72,20 +75,28 @@ class Workspace:
 
     def sure_names(self):
         """The list of the names with sure patterns, ordered by the indexes, then by the names."""
-        indexes = {name: index_of(self._patterns[name]) for name in self._patterns}
-        rows = sorted([(indexes[name], name) for name in indexes if indexes[name] is not None])
-        return [row[1] for row in rows]
+        rows = [(self._index(self._patterns[name]), name) for name in self._patterns]
+        return [row[1] for row in sorted([row for row in rows if row[0] is not None])]
 
     def containing(self, name):
         """The ascending list of all other names whose patterns contain the pattern of this name."""
         pattern = self.pattern(name)
-        others = [other for other in self.names() if other != name]
-        return [other for other in others if contains(self._patterns[other], pattern)]
+        return [other for other in self.names() if other != name and self._contains(self._patterns[other], pattern)]
 
     def _store(self, name, pattern):
         if len(self._patterns) == MOST_NAMES:
             raise Full(MOST_NAMES)
         self._patterns[name] = pattern
+
+    def _index(self, pattern):
+        if pattern not in self._indexes:
+            self._indexes[pattern] = index_of(pattern)
+        return self._indexes[pattern]
+
+    def _contains(self, first, second):
+        if (first, second) not in self._contained:
+            self._contained[(first, second)] = contains(first, second)
+        return self._contained[(first, second)]
 
 
 def need_new_name(name, table):
