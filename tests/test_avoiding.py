@@ -199,6 +199,35 @@ class Errors(unittest.TestCase):
 
 
 class Hardest(unittest.TestCase):
+    FOUR = ("ABACBC", "ABCDEFGA", "AAAAAAAA", "QQRRSSTTQQ")
+
+    def test_patterns_about_as_long_as_the_words(self):
+        chance = random.Random(7)
+        for size in (4, 5, 6, 7, 8, 9, 10, 20):
+            for _ in range(5):
+                pattern = random_pattern(chance, size, min(size, chance.randint(2, 7)))
+                for length in (size - 1, size, size + 1, 7):
+                    if length <= 7:
+                        letters = 3 if length < 6 else 2
+                        words = [word for word in all_words(letters, length) if not slow_meets(pattern, word)]
+                        self.assertEqual(avoiding_words(pattern, letters, length), words, (pattern, length))
+                        self.assertEqual(count_avoiding(pattern, letters, length), len(words))
+
+    def test_three_letters_and_length_seven(self):
+        for pattern in self.FOUR + ("ABCDEFA", "AABBCC", "ABCABC", "ABCDEF", "ABBCCA", "AABCBC"):
+            words = slow_avoiding(pattern, 3, 7)
+            self.assertEqual(avoiding_words(pattern, 3, 7), words)
+            self.assertEqual(count_avoiding(pattern, 3, 7), len(words))
+        for pattern in ("ABACBC", "ABCDEFGA"):
+            words = [word for word in all_words(3, 7) if not slow_meets(pattern, word)]
+            self.assertEqual(avoiding_words(pattern, 3, 7), words)
+
+    def test_a_hundred_calls(self):
+        for pattern in self.FOUR:
+            with within_seconds(self, 10):
+                for _ in range(100):
+                    avoiding_words(pattern, 3, 7)
+
     def test_lists_of_long_words(self):
         with within_seconds(self, 20):
             for pattern in ("AAAB", "ABCDAE", "AAABAC", "AABACD", "ABCDEFG", "AABBCCDDEEFFGG", "ABCDEFGABCDEFGABCDEF"):
