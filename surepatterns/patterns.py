@@ -40,7 +40,13 @@ def letters_of(pattern):
 
 def normal_form(pattern):
     """The pattern with its letters renamed to A, B, C and so on."""
-    letters = letters_of(pattern)
+    need_pattern(pattern)
+    return in_normal_form(pattern)
+
+
+def in_normal_form(pattern):
+    """The normal form of what is known to be a pattern, or of the empty string."""
+    letters = distinct(pattern)
     return "".join([CAPITALS[letters.index(letter)] for letter in pattern])
 
 

@@ -140,8 +140,9 @@ class SurePatterns(unittest.TestCase):
             self.assertEqual(expected, sorted(expected))
 
     def test_length_seven(self):
-        expected = [row for row in normal_patterns(7, 7) if is_sure(row)]
+        expected = [row for row in normal_patterns(7, 7) if slow_shortest_chain(row) is not None]
         self.assertEqual(sure_patterns(7), expected)
+        self.assertEqual([row for row in normal_patterns(7, 7) if is_sure(row)], expected)
         self.assertIn("ABACABA", expected)
         self.assertIn("ABCDEFG", expected)
 
@@ -154,12 +155,21 @@ class SurePatterns(unittest.TestCase):
                 self.assertEqual(len(pattern), length)
 
     def test_results_are_new(self):
-        for length in (1, 3, 5):
+        for length in range(1, 8):
             result = sure_patterns(length)
             again = list(result)
             result.append("more")
             result.reverse()
             self.assertEqual(sure_patterns(length), again)
+            result.clear()
+            for other in range(1, 8):
+                sure_patterns(other).clear()
+            self.assertEqual(sure_patterns(length), again)
+
+    def test_a_hundred_calls(self):
+        with within_seconds(self, 15):
+            for _ in range(100):
+                sure_patterns(7)
 
     def test_wrong_numbers(self):
         for value in NO_INTEGERS + [0, -1, 8, 9, 2 ** 70, -2 ** 70]:
