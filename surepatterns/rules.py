@@ -38,10 +38,7 @@ def rule_start(rule, length):
     """The first letters of the rule word, as many as the length says."""
     need_rule(rule)
     need_integer(length, 0, LONGEST_START)
-    start = "a"
-    while len(start) < length:
-        start = image(rule, start)
-    return start[:length]
+    return start_of(rule, length)
 
 
 def rule_letter(rule, place):
@@ -57,15 +54,44 @@ def need_rule(value):
         raise InvalidRule("a rule has 2 to 4 different words of one length from 2 to 4 in the first letters")
 
 
+def is_rule_word(rule, value):
+    """Tell whether any value is a word of letters of a rule."""
+    return is_word(value) and has_only(value, SMALL[:len(rule)])
+
+
 def need_rule_word(rule, value):
     """Raise InvalidWord if any value is not a word of letters of a rule."""
-    if not is_word(value) or not has_only(value, SMALL[:len(rule)]):
+    if not is_rule_word(rule, value):
         raise InvalidWord("a word of at most 200 letters of the rule is needed")
 
 
 def image(rule, word):
     """The image of a word, where the rule and the word are known to be right."""
     return "".join([rule[SMALL.index(letter)] for letter in word])
+
+
+def start_of(rule, length):
+    """The first letters of the rule word, as many as the length says."""
+    start = "a"
+    while len(start) < length:
+        start = image(rule, start)
+    return start[:length]
+
+
+def word_of(rule, place, length):
+    """The word of a length, any one, that stands in the rule word at a place of any size."""
+    size = len(rule[0])
+    steps = []
+    rest, many = place, length
+    # The letters in whose images the word stands are a word again; going back so always leads to place 0.
+    while rest > 0:
+        cut = rest % size
+        steps.append((cut, many))
+        rest, many = rest // size, (cut + many + size - 1) // size
+    word = start_of(rule, many)
+    for cut, many in reversed(steps):
+        word = image(rule, word)[cut:cut + many]
+    return word
 
 
 def letter_of(rule, place):

@@ -23,11 +23,19 @@ INTERFACE = {
     "checker": ["check"],
     "wrongs": ["InvalidRule", "InvalidShape", "InvalidWay", "NoDelay", "NotARecord"],
     "rules": ["is_rule", "image_of", "rule_start", "rule_letter"],
+    "factors": ["factors_of", "is_factor", "factor_place", "is_factor_list"],
+    "cuts": ["cuts_of", "cut_list", "is_cut_list", "delay_of", "two_places", "short_words"],
+    "shapes": ["is_shape", "is_dead", "are_choices", "results_of", "live_steps"],
+    "ways": ["occurs", "way_of", "closed_shapes", "is_way", "are_closed_shapes"],
+    "far": ["far_occurrence", "far_word"],
+    "avoiders": ["rules_of", "does_avoid", "first_avoider"],
+    "book": ["Book"],
+    "records": ["judge"],
 }
+STAGE_11 = ["put", "step", "remove", "mark", "back", "names", "marks", "pattern", "sure_names", "containing"]
 METHODS = {
-    ("workspace", "Workspace"): [
-        "put", "step", "remove", "mark", "back", "names", "marks", "pattern", "sure_names", "containing",
-    ],
+    ("workspace", "Workspace"): STAGE_11,
+    ("book", "Book"): STAGE_11 + ["put_rule", "remove_rule", "rule", "rule_names", "avoided", "avoiders"],
 }
 
 
@@ -38,6 +46,10 @@ class Interface(unittest.TestCase):
             for name in names:
                 with self.subTest(file=file, name=name):
                     self.assertEqual(getattr(module, name).__module__, module.__name__)
+
+    def test_a_book_is_a_workspace(self):
+        book = importlib.import_module("surepatterns.book").Book
+        self.assertTrue(issubclass(book, importlib.import_module("surepatterns.workspace").Workspace))
 
     def test_methods_stand_in_their_classes(self):
         for (file, name), methods in METHODS.items():

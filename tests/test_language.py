@@ -17,17 +17,17 @@ STATEMENTS = (
 EXPRESSIONS = (
     ast.BoolOp, ast.BinOp, ast.UnaryOp, ast.IfExp, ast.Dict, ast.List, ast.Tuple, ast.ListComp, ast.DictComp,
     ast.comprehension, ast.Compare, ast.Call, ast.keyword, ast.JoinedStr, ast.FormattedValue, ast.Constant,
-    ast.Attribute, ast.Subscript, ast.Slice, ast.Name,
+    ast.Attribute, ast.Subscript, ast.Slice, ast.Name, ast.Lambda, ast.Yield, ast.YieldFrom,
 )
 SIGNS = (ast.expr_context, ast.boolop, ast.operator, ast.unaryop, ast.cmpop)
 
 BUILTINS = (
     "len range enumerate zip min max sum abs sorted reversed int str bool list tuple dict set isinstance ord repr any"
-    " all divmod ValueError TypeError KeyError IndexError"
+    " all divmod super ValueError TypeError KeyError IndexError"
 ).split()
 METHODS = (
-    "append clear copy count endswith extend find get index insert isalpha isdigit islower isupper items join keys"
-    " lower partition pop remove replace reverse rfind setdefault split startswith strip update upper values"
+    "append bit_length clear copy count endswith extend find get index insert isalpha isdigit islower isupper items join keys"
+    " lower partition pop remove replace reverse rfind rpartition setdefault split startswith strip update upper values"
 ).split()
 UNUSED_WORDS = re.compile(r"\b(type|typing|enum|Enum|Generic|Protocol|ABC|namedtuple|register|open|input|law|mro)\b")
 
@@ -102,10 +102,36 @@ class Language(unittest.TestCase):
                 self.assertIn(node.func.attr, METHODS + own, path)
 
     def test_only_own_errors_are_caught(self):
-        own = [node.name for path, node in nodes(ast.ClassDef) if path.stem == "errors"]
+        own = [node.name for path, node in nodes(ast.ClassDef) if path.stem in ("errors", "wrongs")]
         for path, node in nodes(ast.ExceptHandler):
             self.assertIsInstance(node.type, ast.Name, path)
             self.assertIn(node.type.id, own, path)
+
+    def test_generators(self):
+        """Each yield is a statement of its own, and each call of a generator is iterated at once."""
+        names = [
+            node.name for _, node in nodes(ast.FunctionDef)
+            if any([isinstance(each, (ast.Yield, ast.YieldFrom)) for each in ast.walk(node)])
+        ]
+        every = [node.name for _, node in nodes(ast.FunctionDef)]
+        self.assertEqual([name for name in names if every.count(name) > 1], [])
+        iterated = [node.iter for _, node in nodes((ast.For, ast.comprehension))]
+        iterated += [node.value for _, node in nodes(ast.YieldFrom)]
+        statements = [node.value for _, node in nodes(ast.Expr)]
+        for path, tree in trees():
+            for node in ast.walk(tree):
+                if isinstance(node, (ast.Yield, ast.YieldFrom)):
+                    self.assertIn(ast.dump(node), [ast.dump(each) for each in statements], path)
+                if isinstance(node, ast.Call) and isinstance(node.func, ast.Attribute) and node.func.attr in names:
+                    self.assertIn(ast.dump(node), [ast.dump(each) for each in iterated], path)
+                if isinstance(node, ast.Name):
+                    self.assertNotIn(node.id, names, path)
+
+    def test_methods_and_attributes_have_different_names(self):
+        methods = [each.name for _, node in nodes(ast.ClassDef) for each in node.body if isinstance(each, ast.FunctionDef)]
+        for path, node in nodes(ast.Attribute):
+            if isinstance(node.ctx, ast.Store):
+                self.assertNotIn(node.attr, methods, path)
 
     def test_exponents_are_literals(self):
         for path, node in nodes(ast.BinOp):

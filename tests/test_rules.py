@@ -6,50 +6,10 @@ from surepatterns import wrongs
 from surepatterns.errors import InvalidNumber, InvalidWord, PatternError
 from surepatterns.rules import image_of, is_rule, rule_letter, rule_start
 from surepatterns.wrongs import InvalidRule
-from tests.helper import (
-    NESTED_LIST, NESTED_TUPLE, NO_INTEGERS, NO_STRINGS, NO_WORDS, SMALL, all_words, random_word, within_seconds,
-)
+from tests.helper import NO_INTEGERS, NO_WORDS, SMALL, all_words, random_word, within_seconds
+from tests.slow_rules import MORSE, NO_RULES, random_rule, slow_image, slow_letter, slow_start
 
-MORSE = ("ab", "ba")
 LAST = 10 ** 60
-NO_RULES = NO_STRINGS + [
-    "", "ab", "abba", "ab,ba", ("ab",), ("ab", "ab"), ["ab", "ba"], [("ab", "ba")], (("ab", "ba"),), ("ab", ["ba"]),
-    ("ba", "ab"), ("bb", "aa"), ("a", "b"), ("abbab", "babba"), ("ab", "b"), ("ab", "aba"), ("ab", ""), ("", ""),
-    ("ab", "ac"), ("ab", "ca"), ("ac", "ab"), ("AB", "BA"), ("aB", "ba"), ("a ", " a"), ("ab", None), ("ab", 1),
-    ("ab", "ba", "ab"), ("ab", "ba", "ad"), ("ab", "ba", "cc", "aa", "bb"), ("ab", "ba", "cc", "ae"),
-    ("ab", "bc", ("ca",)), (True, "ab"), ("ab", "ba", ""), ("ab", "ba", None), {"ab": "ba"}, ("ab", "ba", []),
-    ("aaaa", "aaab", "aaba", "aabbb"), ("abc", "bca"), ("a" * 200, "b" * 200), ("ab", "b" * 201), ("ab", NESTED_LIST),
-    ("abab", "baab", "aabb", "bbaa", "aaaa"),
-]
-
-
-def random_rule(chance, many=None, size=None):
-    many = many or chance.randint(2, 4)
-    size = size or chance.randint(2, 4)
-    while True:
-        row = tuple([random_word(chance, size, SMALL[:many]) for _ in range(many)])
-        if len(set(row)) == many and row[0][0] == "a":
-            return row
-
-
-def slow_image(rule, word):
-    return "".join([dict(zip("abcd", rule))[letter] for letter in word])
-
-
-def slow_start(rule, length):
-    """The rule word by point 19, place by place."""
-    word = "a"
-    while len(word) < length:
-        n = len(word)
-        word += rule["abcd".index(word[n // len(rule[0])])][n % len(rule[0])]
-    return word[:length]
-
-
-def slow_letter(rule, place):
-    if place == 0:
-        return "a"
-    before = slow_letter(rule, place // len(rule[0]))
-    return rule["abcd".index(before)][place % len(rule[0])]
 
 
 class IsRule(unittest.TestCase):
@@ -219,7 +179,7 @@ class Letter(unittest.TestCase):
 
 class Errors(unittest.TestCase):
     def test_no_rules(self):
-        for value in NO_RULES + [NESTED_TUPLE]:
+        for value in NO_RULES:
             with self.subTest(value=value):
                 for word in ("a", "", None, "z"):
                     self.assertRaises(InvalidRule, image_of, value, word)

@@ -4,22 +4,32 @@ import random
 import unittest
 from copy import deepcopy
 
+from surepatterns.avoiders import does_avoid, first_avoider, rules_of
 from surepatterns.avoiding import avoiding_words, least_avoiding
+from surepatterns.book import Book
 from surepatterns.chains import index_of, is_chain, shortest_chain
 from surepatterns.checker import check
 from surepatterns.closed import closed_family, is_closed_family, reachable_sets
+from surepatterns.cuts import cut_list, cuts_of, delay_of, short_words, two_places
 from surepatterns.embedding import occurrence_by_chain, occurrence_in_standard
+from surepatterns.factors import factor_place, factors_of
+from surepatterns.far import far_occurrence, far_word
 from surepatterns.joins import free_sets, joined
 from surepatterns.lengths import sure_length, sure_occurrence
 from surepatterns.occurrences import first_occurrence, meets, occurrences_at
 from surepatterns.order import contains, sure_patterns
 from surepatterns.patterns import value_of
+from surepatterns.records import judge
 from surepatterns.rules import image_of, rule_start
+from surepatterns.shapes import live_steps, results_of
 from surepatterns.standard import find_in_standard, standard_word
+from surepatterns.ways import closed_shapes, occurs, way_of
 from surepatterns.workspace import Workspace
 from tests.helper import (
     first_letters, grown_pattern, normal_patterns, random_chain, random_pattern, random_word, samples,
 )
+from tests.test_avoiders import avoidance
+from tests.test_shapes import some_delayed_rules
 
 RIGHT = ("right",)
 
@@ -162,6 +172,55 @@ class Certificates(unittest.TestCase):
         self.assertEqual(image_of(("ab", "ba"), rule_start(("ab", "ba"), 12)), rule_start(("ab", "ba"), 24))
 
 
+class Rules(unittest.TestCase):
+    """What the functions of points 19 to 28 say together with those before."""
+
+    def some_pairs(self, seed):
+        chance = random.Random(seed)
+        for rule in some_delayed_rules(seed, 27):
+            for _ in range(3):
+                yield rule, random_pattern(chance, chance.randint(1, 7), chance.randint(1, 3)), chance
+
+    def test_sure_or_avoided(self):
+        avoided = 0
+        for rule, pattern, chance in self.some_pairs(20):
+            found = avoidance(rule, pattern)
+            if index_of(pattern) is not None:
+                self.assertIn(found, (False, "TooMany"))
+            if found is True:
+                avoided += 1
+                word = far_word(rule, chance.randrange(10 ** 100), 24)
+                self.assertEqual(check(("avoids", pattern, word)), RIGHT)
+                self.assertEqual(check(("closed", pattern, closed_family(pattern))), RIGHT)
+                for letters, length in ((len(rule), 7),):
+                    if letters <= 3:
+                        self.assertIn(far_word(rule, 10 ** 9, length), avoiding_words(pattern, letters, length))
+        self.assertGreater(avoided, 20)
+
+    def test_occurrences_in_first_letters_and_far_ones(self):
+        for rule, pattern, _ in self.some_pairs(21):
+            if avoidance(rule, pattern) is False:
+                place, lengths = far_occurrence(rule, pattern, way_of(rule, pattern))
+                table = dict(zip(first_letters(pattern), lengths))
+                words = {}
+                at = place
+                for letter in pattern:
+                    words[letter] = far_word(rule, at, min(200, table[letter]))
+                    at += table[letter]
+                if at - place <= 24:
+                    assignment = tuple(words.values())
+                    self.assertEqual(check(("meets", pattern, far_word(rule, place, 24), 0, assignment)), RIGHT)
+                    self.assertEqual(judge(("far", rule, pattern, place, assignment)), RIGHT)
+            elif meets(pattern, rule_start(rule, 24)):
+                self.assertEqual(avoidance(rule, pattern), "TooMany")
+
+    def test_the_order_of_patterns(self):
+        for rule, pattern, chance in self.some_pairs(22):
+            other = random_pattern(chance, chance.randint(1, 4), 2)
+            if contains(pattern, other) and avoidance(rule, other) is True:
+                self.assertIn(avoidance(rule, pattern), (True, "TooMany"))
+
+
 class NewLists(unittest.TestCase):
     """Every list that is returned may be changed; no later call returns another result for that."""
 
@@ -178,6 +237,28 @@ class NewLists(unittest.TestCase):
         for pattern in ("ABACABA", "AAB", "ABCDEFG", "AABB", "A"):
             for call in (joined, free_sets, shortest_chain, reachable_sets, closed_family):
                 calls.append((call, (pattern,)))
+        return calls + self.of_rules() + self.of_a_book()
+
+    def of_rules(self):
+        calls = [(rules_of, (2, 2)), (rules_of, (3, 2))]
+        for rule in (("ab", "ba"), ("ab", "aa"), ("ab", "ca", "cd", "ac")):
+            calls += [(factors_of, (rule, 0)), (factors_of, (rule, 3)), (factors_of, (rule, 16)), (cut_list, (rule, 4))]
+            calls += [(cuts_of, (rule, "")), (cuts_of, (rule, "ab")), (cuts_of, (rule, "bbb")), (short_words, (rule,))]
+            calls += [(results_of, (rule, "AA", (("", ""),))), (results_of, (rule, "Aa", (("", ""),)))]
+            calls += [(results_of, (rule, "aAb", (("a",),))), (live_steps, (rule, "AAA")), (live_steps, (rule, "aAba"))]
+            for shape in ("AA", "AAA", "AbAb", "AaaaA"):
+                calls += [(way_of, (rule, shape)), (closed_shapes, (rule, shape))]
+        return calls
+
+    def of_a_book(self):
+        book = Book()
+        for name, pattern in (("a", "AAA"), ("b", "AA"), ("c", "ABABA")):
+            book.put(name, pattern)
+            book.put_rule(name, {"a": ("ab", "ba"), "b": ("ab", "aa"), "c": ("ab", "ca", "cd", "ac")}[name])
+            book.mark()
+        calls = [(book.names, ()), (book.marks, ()), (book.sure_names, ()), (book.rule_names, ())]
+        for name in "abc":
+            calls += [(book.avoided, (name,)), (book.avoiders, (name,)), (book.containing, (name,))]
         return calls
 
     def others(self):
@@ -186,7 +267,11 @@ class NewLists(unittest.TestCase):
         rows = [(index_of(pattern), first_occurrence(pattern, "abacabadabacaba")) for pattern in patterns]
         rows += [occurrence_in_standard(pattern) for pattern in patterns if index_of(pattern) is not None]
         rows += [least_avoiding("AA", 3, 10), contains("ABACABA", "ABA"), sure_occurrence("ABA", "abcabc" * 3)]
-        return rows + [rule_start(("ab", "ba"), 30), check(("closed", "AAB", ["A", "AB"]))]
+        rule = ("ab", "ba")
+        rows += [delay_of(rule), two_places(rule, 3), factor_place(rule, "aab"), occurs(rule, "AA"), does_avoid(rule, "AAA")]
+        rows += [first_avoider("AAA", 2, 3), far_occurrence(rule, "AA", [("AA", (("a",),))]), far_word(rule, 10 ** 80, 40)]
+        rows += [judge(("closed", rule, "AAA", ["AAA", "aAaAaAa", "bAbAbAb"]))]
+        return rows + [rule_start(rule, 30), check(("closed", "AAB", ["A", "AB"]))]
 
     def test_changed_results(self):
         calls = self.everything()

@@ -1,0 +1,47 @@
+"""Rules whose words avoid a pattern (point 26)."""
+
+from surepatterns.alphabet import SMALL
+from surepatterns.errors import InvalidNumber
+from surepatterns.integers import is_integer_from
+from surepatterns.lineage import Lineage
+from surepatterns.patterns import need_pattern
+from surepatterns.reading import Reading, reading_of
+from surepatterns.ways import way_and_shapes
+
+LONGEST = {2: 4, 3: 2}
+
+
+def rules_of(letters, length):
+    """The ascending list of all rules with a number of letters and a length."""
+    _need_numbers(letters, length)
+    words = [""]
+    for _ in range(length):
+        words = [word + letter for word in words for letter in SMALL[:letters]]
+    rules = [(word,) for word in words if word[0] == "a"]
+    for _ in range(letters - 1):
+        rules = [rule + (word,) for rule in rules for word in words if word not in rule]
+    return rules
+
+
+def does_avoid(rule, pattern):
+    """Tell whether the pattern has no occurrence in the rule word of a rule with a delay."""
+    reading = reading_of(rule)
+    need_pattern(pattern)
+    return way_and_shapes(reading, pattern)[0] is None
+
+
+def first_avoider(pattern, letters, length):
+    """The first of these rules that has a delay and avoids the pattern, or None."""
+    need_pattern(pattern)
+    _need_numbers(letters, length)
+    for rule in rules_of(letters, length):
+        lineage = Lineage(rule)
+        delay = lineage.delay()
+        if delay is not None and way_and_shapes(Reading(lineage, delay), pattern)[0] is None:
+            return rule
+    return None
+
+
+def _need_numbers(letters, length):
+    if not is_integer_from(letters, 2, 3) or not is_integer_from(length, 2, LONGEST[letters]):
+        raise InvalidNumber("2 letters with a length from 2 to 4, or 3 letters with the length 2, are needed")
