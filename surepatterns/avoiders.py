@@ -3,12 +3,15 @@
 from surepatterns.alphabet import SMALL
 from surepatterns.errors import InvalidNumber
 from surepatterns.integers import is_integer_from
+from surepatterns.laying import Laying
 from surepatterns.lineage import Lineage
 from surepatterns.patterns import need_pattern
 from surepatterns.reading import Reading, reading_of
+from surepatterns.rules import start_of
 from surepatterns.ways import way_and_shapes
 
 LONGEST = {2: 4, 3: 2}
+FIRST_PLACES = 12
 
 
 def rules_of(letters, length):
@@ -35,11 +38,23 @@ def first_avoider(pattern, letters, length):
     need_pattern(pattern)
     _need_numbers(letters, length)
     for rule in rules_of(letters, length):
-        lineage = Lineage(rule)
-        delay = lineage.delay()
-        if delay is not None and way_and_shapes(Reading(lineage, delay), pattern)[0] is None:
-            return rule
+        if not _occurs_soon(rule, pattern):
+            lineage = Lineage(rule)
+            delay = lineage.delay()
+            if delay is not None and way_and_shapes(Reading(lineage, delay), pattern)[0] is None:
+                return rule
     return None
+
+
+def _occurs_soon(rule, pattern):
+    """Tell whether one of the first places shows that the pattern has a way with one tuple."""
+    # In so few letters each word of an occurrence has less than 2 L - 1 letters, and so is a short word.
+    size = len(pattern) + 2 * len(rule[0]) - 3
+    start = start_of(rule, FIRST_PLACES + size)
+    for place in range(FIRST_PLACES):
+        if Laying(pattern, start[place:place + size]).fits(0):
+            return True
+    return False
 
 
 def _need_numbers(letters, length):

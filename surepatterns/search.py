@@ -7,7 +7,8 @@ from surepatterns.windows import CONTEXT
 class StepSearch:
     """The live steps of a shape: those that lead to words, those that lead to shapes, or both.
 
-    It chooses pieces for one capital letter after the other, and looks at the windows of what is known then.
+    It chooses pieces for one capital letter after the other, and looks at the windows of what is known then. What
+    they let through is looked at as a whole in the end.
     """
 
     def __init__(self, windows, shape, to_words, to_shapes):
