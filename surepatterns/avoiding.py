@@ -13,7 +13,7 @@ LONGEST_LEAST = 10
 def avoiding_words(pattern, letters, length):
     """The ascending list of all words of a length over so many letters that avoid the pattern."""
     _need(pattern, letters, length, LONGEST_LISTED)
-    if _is_always_met(pattern, length):
+    if length >= len(pattern) and _has_different_letters(pattern):
         return []
     words = [""]
     # A word that avoids the pattern without its last letter avoids it, too, so only such words are extended.
@@ -33,7 +33,7 @@ def count_avoiding(pattern, letters, length):
 def least_avoiding(pattern, letters, length):
     """The least word of a length over so many letters that avoids the pattern, or None."""
     _need(pattern, letters, length, LONGEST_LEAST)
-    if _is_always_met(pattern, length):
+    if length >= len(pattern) and _has_different_letters(pattern):
         return None
     return _least_from("", pattern, letters, length)
 
@@ -44,9 +44,9 @@ def _need(pattern, letters, length, longest):
     need_integer(length, 0, longest)
 
 
-def _is_always_met(pattern, length):
-    """Tell whether a word of a length meets the pattern for the reason alone that its letters are all different."""
-    return length >= len(pattern) and len(distinct(pattern)) == len(pattern)
+def _has_different_letters(pattern):
+    """Tell whether no letter of the pattern comes twice; then each word that is not shorter meets it."""
+    return len(distinct(pattern)) == len(pattern)
 
 
 def _least_from(word, pattern, letters, length):
